@@ -3,6 +3,7 @@ package crc_test
 import (
 	"bytes"
 	"hash/crc32"
+	"math/bits"
 	"math/rand"
 	"slices"
 	"testing"
@@ -220,19 +221,25 @@ func TestFourDiffer(t *testing.T) {
 	}
 }
 
-// TestFourDifferAlike is of P2.2: the sums of many rows of four bytes, all unlike each other.
-func TestFourDifferAlike(t *testing.T) {
-	seen := map[uint32]bool{}
-	const step = 0x10001*13 + 2 // odd, so that no row comes twice
-	b, next := make([]byte, 4), uint32(0)
-	for range 1 << 19 {
-		b[0], b[1], b[2], b[3] = byte(next), byte(next>>8), byte(next>>16), byte(next>>24)
-		s := crc.Sum(b)
-		if seen[s] {
-			t.Fatalf("two rows of four bytes have one sum, %x the second", b)
+// TestAllFourDiffer is of P2.2, for all differences of four bytes at once: since sums of rows taken together are sums taken together (TestThreeRows), it is enough that none of the 32 bits' marks in the sum is made of the others'.
+func TestAllFourDiffer(t *testing.T) {
+	for n := 4; n < 80; n++ {
+		zero := crc.Sum(make([]byte, n))
+		for at := range n - 3 {
+			var byTop [33]uint32 // marks, cleared of those before them, by how many bits they have
+			for i := range 32 {
+				b := make([]byte, n)
+				b[at+i/8] = 1 << (i % 8)
+				mark := crc.Sum(b) ^ zero
+				for mark != 0 && byTop[bits.Len32(mark)] != 0 {
+					mark ^= byTop[bits.Len32(mark)]
+				}
+				if mark == 0 {
+					t.Fatalf("%d bytes: four bytes from %d on can differ and have one sum", n, at)
+				}
+				byTop[bits.Len32(mark)] = mark
+			}
 		}
-		seen[s] = true
-		next += step
 	}
 }
 
